@@ -2,6 +2,7 @@ package impl
 
 import (
 	"iter"
+	"math/bits"
 	"strconv"
 	"strings"
 )
@@ -41,6 +42,11 @@ func (s memberBits) minus(t memberBits) memberBits {
 
 func (s memberBits) subsetOf(t memberBits) bool {
 	return s.minus(t) == noMembers
+}
+
+// smallest returns the smallest member of s; s is not empty.
+func (s memberBits) smallest() int {
+	return bits.TrailingZeros8(uint8(s)) + 1
 }
 
 // members returns the members of s in new memory, ascending.
