@@ -18,6 +18,11 @@ const (
 	allMembers memberBits = 1<<MaxMembers - 1
 )
 
+// firstMembers returns the set of the members 1 to n; n is in the range 0 to MaxMembers.
+func firstMembers(n int) memberBits {
+	return 1<<n - 1
+}
+
 func (s memberBits) contains(m int) bool {
 	// The range comes first: a shift by a negative number panics.
 	return m >= 1 && m <= MaxMembers && s>>(m-1)&1 == 1
@@ -42,6 +47,10 @@ func (s memberBits) minus(t memberBits) memberBits {
 
 func (s memberBits) subsetOf(t memberBits) bool {
 	return s.minus(t) == noMembers
+}
+
+func (s memberBits) size() int {
+	return bits.OnesCount8(uint8(s))
 }
 
 // smallest returns the smallest member of s; s is not empty.
